@@ -1,0 +1,1 @@
+"""Averages over all networks under local policies."""
