@@ -59,9 +59,6 @@ def rows_bar(alike, left, right, k):
 
 def build(plan):
     """Some network that fits a plan."""
-    fault = plan_fault(plan)
-    if fault is not None:
-        raise Refused(fault[2])
     links = []
     for a, b in KINDS:
         links.extend(kind_links(plan, a, b))
@@ -69,7 +66,7 @@ def build(plan):
 
 
 def kind_links(plan, a, b):
-    """Some links of the kind (a, b) for a plan that has no fault there."""
+    """Some links of the kind (a, b); refused with its fault, if it has one."""
     left, right = kind_rows(plan, a, b)
     graph = row_graph(left) if a == b else sides_graph(left, right)
     ones = places_of(plan, a)

@@ -46,7 +46,8 @@ def safe_share(policy, slack, turn):
     share = (1, 1)
     for view, much in zip(policy.views, slack):
         sent_more = sends(turn, view)
-        if much != (0, 1) and sent_more[0] > 0:
+        # The views of the edge, which have no slack, do not send more.
+        if sent_more[0] > 0:
             limit = made(much[0] * sent_more[1], 2 * much[1] * sent_more[0])
             share = limit if compared(limit, share) < 0 else share
     return share

@@ -1,6 +1,7 @@
 """Second, plain ways of counting, and odd values, for the tests."""
 
 import random
+import unittest
 from fractions import Fraction
 from itertools import combinations, product
 from math import gcd
@@ -12,8 +13,29 @@ class Odd:
     """A value of no kind that the package knows."""
 
 
+class Agreeable:
+    """A value that says that it equals every other one."""
+
+    def __eq__(self, other):
+        return True
+
+    __hash__ = None
+
+
 # None of these is a sequence, an integer, a fraction, a view ..
-ODD = [None, True, False, "", "0", "ab", b"", b"ab", 1.0, 0.5, {}, {0: 1}, {1, 2}, frozenset(), range(3), Odd(), Odd, len]
+ODD = [None, True, False, "", "0", "ab", b"", b"ab", 1.0, 0.5, {}, {0: 1}, {1, 2}, frozenset(), range(3), Odd(), Odd, len, Agreeable()]
+
+
+class Case(unittest.TestCase):
+    """What the test cases have in common."""
+
+    def refused(self, kind, at, work):
+        """That work raises an error of just this kind, with this number."""
+        with self.assertRaises(kind) as caught:
+            work()
+        self.assertIs(type(caught.exception), kind)
+        self.assertEqual(caught.exception.at, at)
+        self.assertIs(type(caught.exception.at), int)
 
 
 def dice(seed):
@@ -238,7 +260,7 @@ def all_policies(seed, many):
 
 def variations(value):
     """Values that differ from a told one at one place."""
-    for odd in (None, True, 7, "x", (), [], 1.5):
+    for odd in (None, True, 7, "x", (), [], 1.5, Agreeable()):
         yield odd
     if type(value) is tuple:
         yield list(value)

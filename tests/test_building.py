@@ -234,6 +234,10 @@ class Collections(unittest.TestCase):
 
     def test_good_numbers(self):
         rng = dice(19)
+        # Here the few sites with many neighbours come behind those without any.
+        self.check((((0, ()), 1), ((0, (1, 1)), 1), ((1, (0, 0)), 1)))
+        self.check((((0, ()), 5), ((0, (0, 0)), 1)))
+        self.check((((1, (2,)), 2), ((1, (2, 2, 2)), 1), ((2, ()), 9), ((2, (1,)), 1), ((2, (1, 1, 1, 1)), 1)))
         for lot in [((CUBIC, 1),), ((CUBIC, 2),), (((0, ()), 1),), (((0, (0, 0, 0, 0)), 1),), (((2, (2,)), 1), ((3, ()), 2))]:
             self.check(lot)
         for _ in range(25):

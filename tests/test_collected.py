@@ -3,7 +3,7 @@
 import unittest
 from fractions import Fraction
 
-from plain import ODD, dice, half, pair, random_network_parts, walked_views
+from plain import ODD, Case, dice, half, pair, random_network_parts, walked_views
 
 from handalong.collected import (checked_collection, collected, collection_mean, collection_total, copies, half_links,
                                  is_collection, joined, network_collection, sites, unbalanced)
@@ -19,13 +19,7 @@ WRONG_ENTRIES = ODD + [3, (), (A,), (A, 1, 1), [A, 1], (A, 0), (A, -1), (A, True
                        ((0, [0, 1]), 1), ((0, (1, 0)), 1), ((4, ()), 1), ((True, ()), 1), (list(A), 1), (None, 1)]
 
 
-class Collections(unittest.TestCase):
-    def refused(self, kind, at, work):
-        with self.assertRaises(kind) as caught:
-            work()
-        self.assertEqual(caught.exception.at, at)
-        self.assertIs(type(caught.exception.at), int)
-
+class Collections(Case):
     def test_is_collection(self):
         for value in [PATH, ((A, 1),), ((A, 7), (B, 1), (C, 100)), (((3, (3, 3, 3, 3)), 10**9),)]:
             self.assertIs(is_collection(value), True)

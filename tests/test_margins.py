@@ -124,7 +124,7 @@ class Most(unittest.TestCase):
             self.assertTrue(is_told_collection(answer[2], policy))
         self.assertIs(is_most_evidence(policy, scores, a, b, answer), True)
 
-    def check(self, policy, scores, a, b, c):
+    def check(self, policy, scores, a, b, c, elements):
         uneven = uneven_elements(policy, a, b)
         bounds = [(plain_total(policy, scores, lot) - c * site_count(lot)) / k for lot, k in uneven]
         answer = most_sent(policy, scores, a, b)
@@ -134,7 +134,7 @@ class Most(unittest.TestCase):
             return answer
         self.assertEqual(answer[:2], ("most", pair(min(bounds))))
         for lot, _ in uneven:
-            for other in (lot, copies(lot, 2), joined(lot, answer[2])):
+            for other in [lot, copies(lot, 2), joined(lot, answer[2])] + [joined(lot, each) for each in elements]:
                 value = (*answer[:2], other, answer[3])
                 self.assertIs(is_most_evidence(policy, scores, a, b, value), judge_most(policy, scores, a, b, value, c))
         return answer
@@ -148,7 +148,7 @@ class Most(unittest.TestCase):
             c = min(plain_mean(policy, scores, lot) for lot in elements)
             for at, (a, b) in enumerate(PAIRS[policy.modes]):
                 for one, other in ((a, b), (b, a)):
-                    answer = self.check(policy, scores, one, other, c)
+                    answer = self.check(policy, scores, one, other, c, elements)
                     free += answer[0] == "free"
                     if at == 0:
                         for value in variations(answer):
@@ -173,6 +173,18 @@ class Most(unittest.TestCase):
         self.assertEqual(most_sent(policy, [1, 5, 3, 2], 0, 1), ("most", (2, 1), (((0, (1, 1)), 1),), ((2, 1),)))
         self.assertEqual(most_sent(policy=policy, scores=(1, 5, 3, 2), a=1, b=0),
                          ("most", (2, 1), (((1, (0,)), 1),), ((-2, 1),)))
+        # With as many links there and back in other modes, and with more.
+        both = Policy(4, [(0, ()), (0, (1,)), (1, (0,)), (2, (3,)), (0, (2,)), (3, (0,)), (1, (2,)), (1, (3,)), (3, (2,))])
+        scores = [5 if view == (0, (1,)) else 1 if view == (1, (0,)) else 0 for view in both.views]
+        transfer = most_sent(both, scores, 0, 1)[3]
+        lot = (((0, (1,)), 1),)
+        self.assertIs(is_most_evidence(both, scores, 0, 1, ("most", (5, 1), lot, transfer)), True)
+        for view in [(2, (3,)), (0, (2,)), (3, (0,)), (1, (2,)), (1, (3,)), (3, (2,))]:
+            value = ("most", (5, 1), joined(lot, ((view, 1),)), transfer)
+            self.assertEqual(plain_total(both, scores, value[2]), 5)
+            self.assertIs(is_most_evidence(both, scores, 0, 1, value), False)
+        value = ("most", (5, 1), joined(lot, (((2, (3,)), 2), ((3, (2,)), 2))), transfer)
+        self.assertIs(is_most_evidence(both, scores, 0, 1, value), True)
         free = Policy(2, [(0, ()), (1, ())])
         for a, b in ((0, 1), (1, 0)):
             answer = most_sent(free, [0, 3], a, b)

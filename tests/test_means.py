@@ -5,7 +5,7 @@ from fractions import Fraction
 from math import gcd
 
 from plain import (ODD, PAIRS, all_policies, balanced, dice, fraction, is_told_collection, is_told_transfer, judge_mean,
-                   judge_none, only_solution, pair, plain_crossings, plain_elements, plain_lefts, plain_mean,
+                   judge_none, only_solution, pair, plain_crossings, plain_elements, plain_mean,
                    random_network_parts, random_policy_views, site_count, variations, walked_views)
 
 from handalong.collected import copies, joined

@@ -73,12 +73,26 @@ class Tight(unittest.TestCase):
         self.assertEqual(transfer, ((-1, 1),))
         self.assertEqual(tight_views(policy, [1, 0, 4, 2])[0], (0,))
         self.assertEqual(tight_views(policy=policy, scores=(2, 0, 3, 2))[:2], ((1, 2), (((0, (1,)), 2), ((1, (0, 0)), 1))))
+        self.check_slack()
         one = Policy(1, [(0, ()), (0, (0,))])
         self.assertEqual(tight_views(one, [3, 2]), ((1,), (((0, (0,)), 1),), ()))
         self.assertIs(is_tight_evidence(one, [3, 2], ((1,), (((0, (0,)), 6),), ())), True)
         self.assertIs(is_tight_evidence(policy=one, scores=[3, 2], value=((True,), (((0, (0,)), 6),), ())), False)
         self.assertIs(is_tight_evidence(one, [3, 3], ((1,), (((0, (0,)), 6),), ())), False)
         self.assertIs(is_tight_evidence(one, [3, 3], ((0, 1), (((0, ()), 1), ((0, (0,)), 1)), ())), True)
+
+    def check_slack(self):
+        """Only the view without neighbours is tight; the others have to share what they have above it."""
+        for near in range(1, 5):
+            for far in range(1, 5):
+                policy = Policy(2, [(0, ()), (0, (1,) * near), (1, (0,) * far)])
+                for one in range(4):
+                    for other in range(4):
+                        if one or other:
+                            scores = (-1, one - 1, other - 1)
+                            answer = tight_views(policy, scores)
+                            self.assertEqual(answer[:2], ((0,), (((0, ()), 1),)))
+                            self.check_told(policy, scores, answer)
 
     def test_errors_in_their_order(self):
         never = Policy(2, [(0, (1,))])

@@ -3,7 +3,7 @@
 import unittest
 from fractions import Fraction
 
-from plain import ODD, PAIRS, all_policies, dice, fraction, pair, plain_lefts, plain_sends, random_network_parts
+from plain import ODD, Case, PAIRS, all_policies, dice, fraction, pair, plain_lefts, plain_sends, random_network_parts
 
 from handalong.errors import InvalidScore, InvalidTransfer
 from handalong.networks import Network
@@ -16,13 +16,7 @@ def random_transfer(rng, modes):
     return tuple(pair(Fraction(rng.randint(-9, 9), rng.randint(1, 5))) for _ in PAIRS[modes])
 
 
-class Transfers(unittest.TestCase):
-    def refused(self, kind, at, work):
-        with self.assertRaises(kind) as caught:
-            work()
-        self.assertEqual(caught.exception.at, at)
-        self.assertIs(type(caught.exception.at), int)
-
+class Transfers(Case):
     def test_is_transfer(self):
         self.assertIs(is_transfer(1, ()), True)
         self.assertIs(is_transfer(2, ((-1, 2),)), True)
