@@ -1,7 +1,8 @@
 """Balanced amounts of views at the least cost."""
 
+from handalong.ratios import made
 from handalong.simplex import least_cost
-from handalong.transfers import MODE_PAIRS, crossings
+from handalong.transfers import MODE_PAIRS, crossings, scaled
 
 
 def least_balanced(modes, views, costs, weights):
@@ -19,3 +20,24 @@ def least_balanced(modes, views, costs, weights):
 def collection_of(policy, amounts):
     """The collection of as many sites with each allowed view as the amounts tell by its index."""
     return tuple([(policy.views[at], amounts[at]) for at in sorted(amounts)])
+
+
+def parted(policy, edge):
+    """Of the views with these indexes those that balanced collections of them have.
+
+    The pair of how often each of these stands in some such collection, a dict by indexes, and a
+    transfer by which these send 0 and the other views of the edge at most -1.
+    """
+    views = [policy.views[at] for at in edge]
+    counts = {}
+    while True:
+        costs = [0 if at in counts else -1 for at in edge]
+        amounts, prices = least_balanced(policy.modes, views, costs, [1 for _ in edge])
+        if amounts is None:
+            # No view sends more than what the weight costs, with the sign changed.
+            return (counts, scaled(prices[:-1], made(prices[-1][1], prices[-1][0])))
+        known = len(counts)
+        for place, number in amounts.items():
+            counts[edge[place]] = counts.get(edge[place], 0) + number
+        if len(counts) == known:
+            return (counts, prices[:-1])

@@ -1,4 +1,6 @@
-"""The plainest questions about any value."""
+"""The plainest questions about any value, and about integers."""
+
+from math import gcd
 
 
 def is_integer(value):
@@ -24,3 +26,16 @@ def is_sequence(value):
 def is_tuple_of(value, length):
     """Whether any value is a tuple of so many things."""
     return isinstance(value, tuple) and len(value) == length
+
+
+def common_divisor(numbers):
+    """The greatest common divisor of a list of integers, 0 if all are 0."""
+    common = 0
+    for number in numbers:
+        common = gcd(common, number)
+    return common
+
+
+def product_sum(row, other):
+    """The sum of the products of the numbers of two rows of one length."""
+    return sum([one * two for one, two in zip(row, other)])

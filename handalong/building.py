@@ -1,8 +1,6 @@
 """Plans and collections: which networks have just these views, and how many sites they need."""
 
-from math import gcd
-
-from handalong.basics import is_number, is_tuple_of
+from handalong.basics import common_divisor, is_number, is_tuple_of
 from handalong.collected import copies, sites, unbalanced
 from handalong.degrees import row_fault, row_graph, row_graph_count, rows_behind, sides_fault, sides_graph
 from handalong.degrees import sides_graph_count, tallies_bar, tallies_fault, tally, tally_bars, tally_fault, tally_sum
@@ -118,9 +116,7 @@ def seats(collection):
 
 def lowest(collection):
     """The collection with its counts divided by their greatest common divisor."""
-    common = 0
-    for _, count in collection:
-        common = gcd(common, count)
+    common = common_divisor([count for _, count in collection])
     return tuple([(view, count // common) for view, count in collection])
 
 

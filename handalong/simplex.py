@@ -6,8 +6,7 @@ the goal. The last two rows are costs, both kept with the sign changed: how far 
 missed, and what is asked for; the former counts more than any multiple of the latter.
 """
 
-from math import gcd
-
+from handalong.basics import common_divisor, product_sum
 from handalong.ratios import made
 
 
@@ -29,7 +28,7 @@ def least_cost(columns, costs, goal):
         best = entering(table, common, wide, costs)
         if best is None:
             return outcome(table, common, wide, costs, basis)
-        entry = [weighed(row, wide[best]) for row in table]
+        entry = [product_sum(row, wide[best]) for row in table]
         entry[-1] += costs[best] * common
         leaving = leaving_row(table, entry)
         table = turned(table, common, entry, leaving)
@@ -44,14 +43,9 @@ def first_table(goal):
     return [*rows, [-sum(goal)] + [-1] * size, [0] * (size + 1)]
 
 
-def weighed(row, column):
-    """The sum of the products of the entries."""
-    return sum([one * other for one, other in zip(row, column)])
-
-
 def reduced(table, common, column, cost):
     """What one more of a column adds to both costs."""
-    return (weighed(table[-2], column), weighed(table[-1], column) + cost * common)
+    return (product_sum(table[-2], column), product_sum(table[-1], column) + cost * common)
 
 
 def entering(table, common, columns, costs):
@@ -116,7 +110,5 @@ def missing_weight(table, common, columns, costs):
 
 def lowered_amounts(amounts):
     """The amounts divided by their greatest common divisor."""
-    divisor = 0
-    for number in amounts.values():
-        divisor = gcd(divisor, number)
+    divisor = common_divisor(list(amounts.values()))
     return {at: number // divisor for at, number in amounts.items()}

@@ -1,6 +1,6 @@
 """The views that obeying networks of the least mean have."""
 
-from handalong.balancing import collection_of, least_balanced
+from handalong.balancing import collection_of, parted
 from handalong.basics import is_integer, is_tuple_of
 from handalong.building import lowest
 from handalong.collected import collection_mean
@@ -21,24 +21,6 @@ def tight_views(policy, scores):
     step = scaled(turn, safe_share(policy, slack, turn))
     lifted = tuple([added(one, other) for one, other in zip(transfer, step)])
     return (tuple(sorted(counts)), lowest(collection_of(policy, counts)), lifted)
-
-
-def parted(policy, edge):
-    """Of the views with these indexes those that balanced collections of them have.
-
-    The pair of how often each of these stands in some such collection, a dict by indexes, and a
-    transfer by which these send 0 and the other views of the edge at most -1.
-    """
-    views = [policy.views[at] for at in edge]
-    counts = {}
-    while True:
-        costs = [0 if at in counts else -1 for at in edge]
-        amounts, prices = least_balanced(policy.modes, views, costs, [1 for _ in edge])
-        known = len(counts)
-        for place, number in amounts.items():
-            counts[edge[place]] = counts.get(edge[place], 0) + number
-        if len(counts) == known:
-            return (counts, prices[:-1])
 
 
 def safe_share(policy, slack, turn):

@@ -6,6 +6,8 @@ from fractions import Fraction
 from itertools import combinations, product
 from math import gcd
 
+from handalong.errors import InvalidScore, NoNetwork
+
 PAIRS = {n: [(a, b) for a in range(n) for b in range(a + 1, n)] for n in (1, 2, 3, 4)}
 
 
@@ -36,6 +38,34 @@ class Case(unittest.TestCase):
         self.assertIs(type(caught.exception), kind)
         self.assertEqual(caught.exception.at, at)
         self.assertIs(type(caught.exception.at), int)
+
+    def refuses_scores(self, policy, work):
+        """That work with scores refuses wrong ones, whatever else there is."""
+        many = len(policy.views)
+        for value in ODD + [[0] * (many + 1), (1,) * (many + 2)] + ([[]] if many else []):
+            self.refused(InvalidScore, many, lambda: work(value))
+        for at in range(many):
+            for odd in (None, True, 1.0, "1", (1,)):
+                value = [0] * many
+                value[at] = odd
+                self.refused(InvalidScore, at, lambda: work(value))
+                self.refused(InvalidScore, at, lambda: work(tuple(value) + (None,)))
+
+    def without_network(self, work):
+        """That work raises NoNetwork, and no subclass of it."""
+        with self.assertRaises(NoNetwork) as caught:
+            work()
+        self.assertIs(type(caught.exception), NoNetwork)
+
+    def all_tuples(self, value):
+        """That what is told is made of tuples throughout."""
+        self.assertNotIsInstance(value, (list, dict, set))
+        if isinstance(value, tuple):
+            self.assertIs(type(value), tuple)
+            for entry in value:
+                self.all_tuples(entry)
+        elif not hasattr(value, "__dict__"):
+            self.assertIn(type(value), (int, str, bool, type(None)))
 
 
 def dice(seed):
@@ -258,6 +288,11 @@ def all_policies(seed, many):
     return told
 
 
+# The words with which evidence of some kind begins.
+WORDS = ("mean", "none", "best", "better", "least", "lower", "toll", "dead", "most", "free", "collection", "less", "more",
+         "never", "network", "forced", "one", "two", "nought", "weights", "clock", "")
+
+
 def variations(value):
     """Values that differ from a told one at one place."""
     for odd in (None, True, 7, "x", (), [], 1.5, Agreeable()):
@@ -277,8 +312,7 @@ def variations(value):
         yield value.upper()
         yield value + " "
         yield value.encode()
-        for word in ("mean", "none", "best", "better", "least", "lower", "toll", "dead", "most", "free", "collection",
-                     "less", "more", ""):
+        for word in WORDS:
             yield word
     elif type(value) is int:
         for other in (value + 1, value - 1, -value, 2 * value, float(value), str(value)):
