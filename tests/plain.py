@@ -290,7 +290,8 @@ def all_policies(seed, many):
 
 # The words with which evidence of some kind begins.
 WORDS = ("mean", "none", "best", "better", "least", "lower", "toll", "dead", "most", "free", "collection", "less", "more",
-         "never", "network", "forced", "one", "two", "nought", "weights", "clock", "")
+         "never", "network", "forced", "one", "two", "nought", "weights", "clock", "transfer", "element", "every", "ratio",
+         "rate", "section", "")
 
 
 def variations(value):

@@ -2,6 +2,7 @@
 
 import importlib
 import inspect
+import re
 import unittest
 
 from plain import ODD, Agreeable
@@ -13,6 +14,7 @@ from handalong.means import least_mean, least_network
 from handalong.networks import Network, breaches, mean, pieces, side_by_side
 from handalong.policies import Policy
 from handalong.ratios import compared
+from handalong.rules import Rule
 from handalong.texts import network_text, read_network
 from handalong.tight import tight_views
 from handalong.views import all_views
@@ -57,20 +59,37 @@ elementary: all_elements(policy) is_element(policy, value) elements_within(polic
 elementary: is_shown(policy, lot) shown_lots(policy)
 peeling: peel(policy, collection) is_peeling(policy, collection, value) element_means(policy, scores)
 peeling: best_elements(policy, scores) joined_policy(one, other) mixed_elements(one, other) mixing_scores(one, other)
+forbidding: low_elements(policy, scores, limit) is_ban(policy, scores, limit, lot)
+forbidding: ban_evidence(policy, scores, limit, lot) is_ban_evidence(policy, scores, limit, lot, value)
+forbidding: least_bans(policy, scores, limit, *, keep=()) ban_reasons(policy, scores, limit, lot)
+forbidding: cheapest_ban(policy, scores, limit, prices, *, keep=()) best_ban(policy, scores, many, *, keep=())
+forbidding: least_blocks(policy, *, keep=()) least_meeting(lots)
+polygons: corners(policy, first, second) directions(points) polygon(policy, first, second)
+polygons: polygon_holds(policy, first, second, paper) outside(policy, first, second, point)
+polygons: some_at(policy, first, second, point) border(policy, first, second, *, value=(0, 1))
+shares: worst_ratio(policy, first, second) ratio_holds(policy, first, second, paper)
+shares: limited(policy, first, second, *, limit=(0, 1)) limited_holds(policy, first, second, paper, *, limit=(0, 1))
+shares: curve(policy, first, second) at_price(policy, first, second, *, price=(1, 1)) loose(policy, scores)
+sections: cut_of(network, sites) frontier(network, sites) gap(collection) rate(policy, scores, price)
+sections: is_rate_evidence(policy, scores, price, value) rate_steps(policy, scores) rate_section(policy, scores, price)
+regions: regions(policy) spans(policy, scores) connected(network)
+cuts: link_kinds(policy) cut_evidence(policy, cut) is_cut_evidence(policy, cut, value) bridges(policy)
+rules: beat(rule, network) beats(rule, network, many)
+nexts: next_views(rule) escape(rule) chain(rule)
 """
 
 CLASSES = {
     "policies": {"Policy": {"__init__": "self, modes, views", "spot": "self, view", "__eq__": None}},
     "networks": {"Network": {"__init__": "self, modes, links", "neighbours": "self, at", "view": "self, at",
                              "site_views": "self", "__eq__": None}},
+    "rules": {"Rule": {"__init__": "self, policy, told", "new_mode": "self, view", "__eq__": None}},
 }
 
 
 def told_functions():
     for line in FUNCTIONS.strip().splitlines():
         module, rest = line.split(": ", 1)
-        for word in rest.split(")")[:-1]:
-            name, names = word.strip().split("(")
+        for name, names in re.findall(r"(\w+)\(((?:[^()]|\([^()]*\))*)\)", rest):
             yield module, name, names
 
 
@@ -80,9 +99,15 @@ class Interface(unittest.TestCase):
             work = getattr(importlib.import_module("handalong." + module), name)
             self.assertTrue(inspect.isfunction(work), name)
             self.assertEqual(work.__module__, "handalong." + module)
-            told = inspect.signature(work).parameters.values()
-            self.assertEqual(", ".join(each.name for each in told), names, name)
-            self.assertTrue(all(each.default is each.empty for each in told), name)
+            self.assertEqual(str(inspect.signature(work)), f"({names})", name)
+            for each in inspect.signature(work).parameters.values():
+                if each.default is not each.empty:
+                    self.assertIs(each.kind, each.KEYWORD_ONLY)
+                    self.assertIs(type(each.default), tuple)
+
+    def test_all_are_told_here(self):
+        self.assertEqual(len(list(told_functions())), len(set(told_functions())))
+        self.assertIn(("shares", "at_price", "policy, first, second, *, price=(1, 1)"), list(told_functions()))
 
     def test_classes(self):
         for module, kinds in CLASSES.items():
@@ -98,12 +123,13 @@ class Interface(unittest.TestCase):
 
 class NothingElseIsEqual(unittest.TestCase):
     def test_objects(self):
-        objects = [Policy(1, []), Policy(2, [(0, (0,))]), Network([0], []), Network([0, 1], [(0, 1)])]
+        objects = [Policy(1, []), Policy(2, [(0, (0,))]), Network([0], []), Network([0, 1], [(0, 1)]),
+                   Rule(Policy(1, []), []), Rule(Policy(2, [(0, (0,))]), [1])]
         for at, one in enumerate(objects):
             for place, other in enumerate(objects):
                 self.assertIs(one == other, at == place)
                 self.assertIs(one != other, at != place)
-            for value in ODD + [one.modes, (), [], vars(one), (one.modes, ()), 1]:
+            for value in ODD + [(), [], vars(one), *vars(one).values(), tuple(vars(one).values()), 1]:
                 self.assertIs(one == value, False)
                 if not isinstance(value, Agreeable):
                     self.assertIs(value == one, False)

@@ -66,7 +66,7 @@ def own_names():
 
 def bound_names(function):
     """The parameters and local names of a function."""
-    found = {arg.arg for arg in function.args.args}
+    found = {arg.arg for arg in function.args.args + function.args.kwonlyargs}
     for node in ast.walk(function):
         if isinstance(node, ast.Name) and isinstance(node.ctx, ast.Store):
             found.add(node.id)
@@ -171,6 +171,8 @@ class Language(unittest.TestCase):
                     self.assertFalse(isinstance(node.above, ast.FunctionDef), place)
                 if isinstance(node, ast.FunctionDef):
                     self.assertEqual((node.args.defaults, node.args.vararg, node.args.kwarg), ([], None, None), place)
+                    for default in node.args.kw_defaults:
+                        self.assertIsInstance(ast.literal_eval(default), tuple, place)
                     self.assertIsNotNone(ast.get_docstring(node) if not isinstance(node.above, ast.ClassDef) else "", place)
                 if isinstance(node, ast.Constant):
                     self.assertNotIsInstance(node.value, (float, complex), place)
