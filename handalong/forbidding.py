@@ -119,7 +119,7 @@ def best_ban(policy, scores, many, *, keep=()):
     best = None
     for size in range(min(many, len(free)) + 1):
         for lot in combinations(free, size):
-            mean = least_of([mean for element, mean in told if not meets(element, lot)])
+            mean = least_of([each for element, each in told if not meets(element, lot)])
             if mean is not None and (best is None or compared(mean, best[1]) > 0):
                 best = (lot, mean)
     return best

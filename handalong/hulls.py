@@ -76,17 +76,15 @@ def falling(points):
     """Of points with ascending first means the corners of a falling chain that is steep first, then flat."""
     kept = []
     for point in points:
-        while kept and is_passed(kept, point):
-            kept.pop()
         if not kept or compared(point[1], kept[-1][1]) < 0:
+            while kept and is_passed(kept, point):
+                kept.pop()
             kept.append(point)
     return kept
 
 
 def is_passed(kept, point):
-    """Whether the last one of the points kept is no corner in view of a further point."""
-    if compared(point[1], kept[-1][1]) >= 0:
-        return False
+    """Whether the last one of the points kept is no corner in view of a further point with a lower second mean."""
     if point[0] == kept[-1][0]:
         return True
     if len(kept) == 1:

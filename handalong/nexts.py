@@ -36,8 +36,8 @@ def next_views(rule):
     live = live_views(rule.policy)
     found = {}
     for view in live:
-        told = next_from(rule, view, (), told_around(rule, live, view))
-        found.update({other: True for other in told})
+        for other in next_from(rule, view, (), told_around(rule, live, view)):
+            found[other] = True
     return tuple(sorted(found))
 
 

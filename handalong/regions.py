@@ -36,8 +36,9 @@ def regions(policy):
     for view in live:
         if view not in placed:
             region = region_of(live, view)
-            placed.update({other: True for other in region})
             found.append(region)
+            for other in region:
+                placed[other] = True
     return tuple(found)
 
 

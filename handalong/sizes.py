@@ -45,13 +45,14 @@ def size_witnesses(base, changes, step):
 
 def is_size_evidence(policy, value):
     """Whether any value is a right answer of `size_evidence`."""
-    if not is_tuple_of(value, 2) or not live_views(policy):
+    if not is_tuple_of(value, 2):
         return False
     clock, collections = value
     if not isinstance(collections, tuple) or len(collections) == 0:
         return False
     if not all([is_network_collection(policy, collection) for collection in collections]):
         return False
+    # Some network obeys, as it has the first of these collections.
     step = size_step(policy)
     if common_divisor([sites(collection) for collection in collections]) != step:
         return False

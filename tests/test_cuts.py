@@ -78,6 +78,24 @@ class Evidence(Case):
                     for value in ODD + [(), [], 3, ("clock",), ("clock", None), ("section", None), ("section", ())]:
                         self.assertIs(is_cut_evidence(policy, cut, value), False)
 
+    def test_few_views(self):
+        """With one or two views for each mode a transfer may go round without being left anywhere."""
+        rng = dice(577)
+        words = {"section": 0, "clock": 0}
+        for at in range(600):
+            modes = at % 2 + 3
+            pool = {mode: [view for degree in (2, 3) for view in all_views(modes, degree) if view[0] == mode]
+                    for mode in range(modes)}
+            policy = Policy(modes, [view for mode in pool for view in rng.sample(pool[mode], rng.randint(1, 2))][:6])
+            live = plain_live(policy)
+            if len(live) > 2:
+                for cut in some_cuts(rng, plain_kinds(live)):
+                    answer = cut_evidence(policy, cut)
+                    self.assertTrue(judge_cut(policy, live, cut, answer), (policy.views, cut, answer))
+                    self.assertIs(is_cut_evidence(policy, cut, answer), True)
+                    words[answer[0]] += 1
+        self.assertGreater(min(words.values()), 50)
+
     def test_cuts_of_sections(self):
         """Each cut of a section of some network is one, and the collection of the section tells so."""
         rng = dice(574)
@@ -116,6 +134,11 @@ class Evidence(Case):
         self.assertEqual(cut_evidence(even, (((0, 0), 1),))[0], "clock")
         self.assertIs(is_cut_evidence(policy=even, cut=(((0, 0), 1),), value=("clock", ((1, 2),))), True)
         self.assertIs(is_cut_evidence(even, (((0, 0), 2),), ("clock", ((1, 2),))), False)
+        # A view that would fit is dead: each of the three modes has as many sites.
+        turn = Policy(3, [(0, (1,)), (0, (1, 2)), (1, (0, 2)), (2, (0, 1))])
+        self.assertEqual(cut_evidence(turn, (((0, 1), 1),))[0], "clock")
+        self.assertIs(is_cut_evidence(turn, (((0, 1), 1),), ("section", (((0, (1,)), 1),))), False)
+        self.assertIs(is_cut_evidence(turn, (((0, 1), 1), ((0, 2), 1)), ("section", (((0, (1, 2)), 1),))), True)
         # The whole network is a section without a cut.
         self.assertEqual(cut_evidence(Policy(1, [(0, ())]), ())[0], "section")
         self.assertIs(is_cut_evidence(Policy(1, [(0, ())]), (), ("section", (((0, ()), 1),))), True)
@@ -126,7 +149,8 @@ class Evidence(Case):
         wrong = ODD + [[], 3, (None,), (((0, 1), 0),), (((0, 1), True),), (((0, 1), 1.0),), (((0, 1), 1), ((0, 1), 2)),
                        (((1, 0), 1), ((0, 1), 1)), (((0, 0), 1),), (((2, 1), 1),), (((1, 2), 1),), ([(0, 1), 1],), (([0, 1], 1),),
                        (((0, True), 1),), (((0, 1), 1, 1),), (((0, 1, 1), 1),), ((0, 1),), (((0, 5), 1),), [((0, 1), 1)],
-                       ((Agreeable(), 1),), (((0, Agreeable()), 1),), ((("0", 1), 1),), (((0, 1), -1),)]
+                       ((Agreeable(), 1),), (((0, Agreeable()), 1),), ((("0", 1), 1),), (((0, 1), -1),), (((False, 1), 1),),
+                       (((Agreeable(), 1), 1),), (((0, 1), Agreeable()),)]
         for work in (cut_evidence, lambda p, cut: is_cut_evidence(p, cut, None)):
             for value in wrong:
                 self.refused(InvalidQuestion, 1, lambda: work(policy, value))

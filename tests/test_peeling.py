@@ -112,6 +112,18 @@ class Peeling(Case):
         self.assertIs(is_peeling(policy, half, []), False)
         self.assertIs(is_peeling(policy, half, [(half, (1, 1)), ((((1, (1, 1)), 1),), (0, 1))]), False)
 
+    def test_fractions_are_above_0(self):
+        """Four elements such that two of them make the same as the other two."""
+        policy = Policy(2, [(0, (0, 1)), (0, (1,)), (1, (0, 1)), (1, (0,))])
+        a, b = [((view, 1),) for view in policy.views[:2]]
+        c, d = [((view, 1),) for view in policy.views[2:]]
+        lot = a + b + c + d
+        self.assertEqual(peel(policy, lot), ((a + c, (1, 1)), (b + d, (1, 1))))
+        for value, right in (([(a + d, (1, 1)), (b + c, (1, 1))], True), ([(a + c, (1, 1)), (b + d, (1, 1)), (a + d, (0, 1))], False),
+                             ([(a + c, (2, 1)), (b + d, (2, 1)), (a + d, (-1, 1)), (b + c, (-1, 1))], False),
+                             ([(a + c, (1, 2)), (b + d, (1, 2)), (a + d, (1, 2)), (b + c, (1, 2))], True)):
+            self.assertIs(is_peeling(policy, lot, value), right)
+
     def test_errors(self):
         policy = Policy(2, [(0, (1,)), (1, (0,)), (1, (1,))])
         right = (((0, (1,)), 1), ((1, (0,)), 1))

@@ -2,16 +2,18 @@
 
 import unittest
 from fractions import Fraction
+from itertools import permutations
 from math import gcd
 
 from judges import balanced_within
-from judges_more import judge_polygon, plain_directions, plain_hull, point_of, told_points
+from judges_more import cross, judge_polygon, plain_directions, plain_falling, plain_hull, point_of, told_points
 from plain import ODD, Case, all_policies, dice, fraction, is_told_collection, pair, plain_elements, variations
 
 from handalong.collected import copies, joined
 from handalong.errors import InvalidScore
 from handalong.policies import Policy
 from handalong.polygons import border, corners, directions, outside, polygon, polygon_holds, some_at
+from handalong.shares import curve
 from handalong.views import all_views
 
 
@@ -48,6 +50,23 @@ class Corners(Case):
             self.assertEqual(directions(told), plain_directions(hull))
             sizes.add(min(len(told), 5))
         self.assertEqual(sizes, {1, 2, 3, 4, 5})
+
+    def test_points_within_edges(self):
+        """With one mode each view has a point of its own; on a small grid many of them are within edges."""
+        rng = dice(456)
+        policy = Policy(1, [view for degree in range(5) for view in all_views(1, degree)])
+        edges = 0
+        for _ in range(600):
+            first, second = ([rng.randint(0, 4) for _ in range(5)] for _ in range(2))
+            points = [(Fraction(x), Fraction(y)) for x, y in zip(first, second)]
+            hull = plain_hull(points)
+            self.assertEqual(corners(policy, first, second), told_points(hull))
+            self.assertEqual(curve(policy, second, first), told_points(plain_falling(points)))
+            edges += any(cross(a, b, c) == 0 for a, b, c in permutations(points, 3) if len({a, b, c}) == 3)
+        self.assertGreater(edges, 100)
+        # The point (3, 3) is found first, on the edge from (2, 4) to (4, 2).
+        told = corners(policy, [3, 2, 4, 0, 10], [3, 4, 2, 10, 0])
+        self.assertEqual([(x[0], y[0]) for x, y in told], [(0, 10), (2, 4), (4, 2), (10, 0)])
 
     def test_directions_tell_the_polygon(self):
         for rng, policy, first, second, points, hull in small_cases(452, 30):

@@ -153,6 +153,13 @@ class Connected(Case):
         for one in (part, other):
             for two in (part, other):
                 self.assertTrue(self.check(side_by_side([one, two])))
+        # Nothing but these links is of one kind in both pieces, whether the rings are odd or even.
+        for many in (3, 4):
+            first = [(i, (i + 1) % many) for i in range(many)]
+            links = first + [(i + many, j + many) for i, j in first] + [(0, many)]
+            one, two = (Network([0] + [mode] * (many - 1) + [1] + [mode] * (many - 1), links) for mode in (2, 3))
+            self.assertTrue(self.check(side_by_side([one, two])))
+            self.assertTrue(self.check(side_by_side([two, one])))
         self.assertTrue(self.check(Network([0] * 16, [(i, (i + 1) % 4 + i // 4 * 4) if i % 4 < 3 else (i - 3, i) for i in range(16)])))
 
     def test_by_hand(self):

@@ -39,6 +39,15 @@ def plain_nexts(policy, table):
     return tuple(sorted(found))
 
 
+def plain_escape(rule, live):
+    """The first view and surrounding whose next view is not allowed, or None."""
+    for view in live:
+        for around in surroundings(live, view):
+            if plain_next(rule, view, around) not in rule.policy.views:
+                return (view, around)
+    return None
+
+
 def random_rules(seed, many, most=9):
     """Rules of random policies; some keep their policy."""
     rng = dice(seed)
@@ -149,11 +158,7 @@ class Nexts(Case):
             self.all_tuples(told)
             self.assertEqual(told, plain_nexts(rule.policy, table))
             live = plain_live(rule.policy)
-            first = None
-            for view in live:
-                for around in surroundings(live, view):
-                    if first is None and plain_next(rule, view, around) not in rule.policy.views:
-                        first = (view, around)
+            first = plain_escape(rule, live)
             self.assertEqual(escape(rule), first)
             seen.add((first is None, bool(live)))
             if first is not None:
@@ -170,6 +175,22 @@ class Nexts(Case):
             self.assertIs(type(chain(rule)), tuple)
             seen.add(min(len(row), 3))
         self.assertLessEqual({(True, True), (False, True), (True, False), 1, 2, 3}, seen)
+
+    def test_first_escapes(self):
+        """Where a next view is not allowed for some of the modes told around alone."""
+        rng = dice(594)
+        unlike = 0
+        for at in range(240):
+            modes = at % 2 + 2
+            pool = [view for degree in ((2, 3), (1, 2))[at % 2] for view in all_views(modes, degree)]
+            policy = Policy(modes, rng.sample(pool, len(pool) - rng.randint(1, 3)))
+            rule = Rule(policy, [rng.randrange(modes) for _ in policy.views])
+            live = plain_live(policy)
+            first = plain_escape(rule, live)
+            self.assertEqual(escape(rule), first)
+            if first is not None:
+                unlike += first[1] != surroundings(live, first[0])[0]
+        self.assertGreater(unlike, 25)
 
     def test_networks_behind_beats(self):
         """Behind k beats a network obeys entry k of the chain, or the last one."""

@@ -166,6 +166,9 @@ class Rates(Case):
         # A dead view does not count.
         some = Policy(2, [(0, (1,)), (1, ())])
         self.assertEqual(rate(some, [-50, 3], (2, 1))[1], (3, 1))
+        self.assertEqual(rate(some, [1, 3], (2, 1))[1], (3, 1))
+        self.assertIs(is_rate_evidence(some, [1, 3], (2, 1), ("rate", (3, 1), ((0, 1),), (((1, ()), 1),))), True)
+        self.assertIs(is_rate_evidence(some, [1, 3], (2, 1), ("rate", (3, 1), ((0, 1),), (((0, (1,)), 1),))), False)
 
     def test_many_views(self):
         rng = dice(534)

@@ -53,6 +53,21 @@ class Ratios(Case):
                     self.assertIs(ratio_holds(policy, first, second, value), judge_ratio(policy, first, second, value))
         self.assertEqual(words, {"none", "every", "ratio"})
 
+    def test_every(self):
+        """Scores that only dead views have."""
+        rng = dice(483)
+        dead = 0
+        for policy, scores in all_policies(483, 250):
+            live = {view for lot in plain_elements(policy) for view, _ in lot}
+            if live:
+                second = [0 if view in live else rng.choice((1, 2, 1000)) for view in policy.views]
+                first = [abs(x) if view in live else x for view, x in zip(policy.views, scores)]
+                answer = worst_ratio(policy, first, second)
+                self.assertEqual(answer[0], "every")
+                self.assertTrue(judge_ratio(policy, first, second, answer), (policy.views, first, second, answer))
+                dead += max(second) > 0
+        self.assertGreater(dead, 30)
+
     def test_any_value(self):
         for at, (policy, first, second) in enumerate(self.cases(482, 30)):
             if at % 3 == 0:
@@ -151,6 +166,9 @@ class Limits(Case):
         self.assertIs(limited_holds(policy=policy, first=[6, 2, 0], second=[0, 2, 6], limit=(1, 1),
                                     paper=("least", (4, 1), (2, 1), (((0, ()), 7), ((0, (0,)), 7)), ())), True)
         self.assertIs(limited_holds(policy, [6, 2, 0], [1, 2, 6], ("none", ()), limit=(1, 1)), False)
+        # The limit 0, if none is told.
+        self.assertIs(limited_holds(policy, [6, 2, 0], [1, 2, 6], ("none", ())), True)
+        self.assertIs(limited_holds(policy, [6, 2, 0], [0, 2, 6], ("none", ())), False)
 
 
 class Curves(Case):
