@@ -28,16 +28,28 @@ def parted(policy, edge):
     The pair of how often each of these stands in some such collection, a dict by indexes, and a
     transfer by which these send 0 and the other views of the edge at most -1.
     """
-    views = [policy.views[at] for at in edge]
+    columns = [crossings(policy.modes, policy.views[at]) for at in edge]
+    counts, prices = parted_columns(columns, len(MODE_PAIRS[policy.modes]))
+    return ({edge[place]: number for place, number in counts.items()}, prices)
+
+
+def parted_columns(columns, size):
+    """Of columns of so many integers those that cancel, together with others, if taken often enough.
+
+    The pair of how often each of these is taken so that all cancel, a dict by indexes, and prices
+    for the entries by which these are worth 0 and the other columns at most -1.
+    """
+    wide = [(*column, 1) for column in columns]
+    goal = (0,) * size + (1,)
     counts = {}
     while True:
-        costs = [0 if at in counts else -1 for at in edge]
-        amounts, prices = least_balanced(policy.modes, views, costs, [1 for _ in edge])
+        costs = [0 if at in counts else -1 for at in range(len(columns))]
+        amounts, prices = least_cost(wide, costs, goal)
         if amounts is None:
-            # No view sends more than what the weight costs, with the sign changed.
+            # No column is worth more than what taking it costs, with the sign changed.
             return (counts, scaled(prices[:-1], made(prices[-1][1], prices[-1][0])))
         known = len(counts)
-        for place, number in amounts.items():
-            counts[edge[place]] = counts.get(edge[place], 0) + number
+        for at, number in amounts.items():
+            counts[at] = counts.get(at, 0) + number
         if len(counts) == known:
             return (counts, prices[:-1])

@@ -113,9 +113,13 @@ def law_rows(policy, views):
 
 def mode_laws(policy):
     """The reduced basis of the weights of modes whose sum is 0 on each obeying network."""
-    rows = law_rows(policy, live_views(policy))
-    solutions = null_rows(rows, policy.modes + len(MODE_PAIRS[policy.modes]))
-    basis = reduced_basis([row[:policy.modes] for row in solutions])
+    return weights_basis(policy.modes, law_rows(policy, live_views(policy)))
+
+
+def weights_basis(modes, rows):
+    """The reduced basis of the weights of modes that make, with some transfer, each row's product sum 0."""
+    solutions = null_rows(rows, modes + len(MODE_PAIRS[modes]))
+    basis = reduced_basis([row[:modes] for row in solutions])
     return tuple([tuple([made(number, row[place]) for number in row]) for place, row in basis])
 
 

@@ -56,11 +56,16 @@ def part(policy, places):
 
 def checked_scores(policy, scores):
     """Any value as the tuple of one integer for each allowed view."""
-    if not is_sequence(scores):
-        raise InvalidScore(len(policy.views))
-    for at, score in enumerate(scores):
-        if not is_integer(score):
+    return checked_integers(scores, len(policy.views))
+
+
+def checked_integers(value, many):
+    """Any value, a sequence of so many integers, as a tuple."""
+    if not is_sequence(value):
+        raise InvalidScore(many)
+    for at, number in enumerate(value):
+        if not is_integer(number):
             raise InvalidScore(at)
-    if len(scores) != len(policy.views):
-        raise InvalidScore(len(policy.views))
-    return tuple(scores)
+    if len(value) != many:
+        raise InvalidScore(many)
+    return tuple(value)

@@ -59,7 +59,9 @@ def sends(transfer, view):
 
 
 def sent(transfer, a, b):
-    """What a site in mode a sends to a neighbour in another mode b."""
+    """What a site in mode a sends to a neighbour in mode b."""
+    if a == b:
+        return (0, 1)
     pairs = MODE_PAIRS[MODES_OF_LENGTH[len(transfer)]]
     if a < b:
         return transfer[pairs.index((a, b))]

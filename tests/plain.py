@@ -51,11 +51,38 @@ class Case(unittest.TestCase):
                 self.refused(InvalidScore, at, lambda: work(value))
                 self.refused(InvalidScore, at, lambda: work(tuple(value) + (None,)))
 
+    def refuses_weights(self, many, work):
+        """That work with so many weights refuses wrong ones, whatever else there is."""
+        for value in ODD + [[], [0] * (many + 1), (0,) * (many + 2)]:
+            self.refused(InvalidScore, many, lambda: work(value))
+        for at in range(many):
+            for odd in (None, True, 1.0, "1", (1,)):
+                value = [0] * many
+                value[at] = odd
+                self.refused(InvalidScore, at, lambda: work(value))
+                self.refused(InvalidScore, at, lambda: work(tuple(value) + (None,)))
+
     def without_network(self, work):
         """That work raises NoNetwork, and no subclass of it."""
         with self.assertRaises(NoNetwork) as caught:
             work()
         self.assertIs(type(caught.exception), NoNetwork)
+
+    def checks_basis(self, rows, width, counts):
+        """That rows are the reduced basis, in fractions, of all rows of a width whose sums over each count are 0."""
+        self.all_tuples(rows)
+        self.assertEqual(len(rows), width - rank(counts))
+        places = []
+        for row in rows:
+            self.assertEqual(len(row), width)
+            self.assertTrue(all(pair(fraction(x)) == x for x in row))
+            place = next(at for at, x in enumerate(row) if x != (0, 1))
+            self.assertEqual(row[place], (1, 1))
+            self.assertTrue(all(other is row or other[place] == (0, 1) for other in rows))
+            places.append(place)
+            for count in counts:
+                self.assertEqual(sum(fraction(x) * k for x, k in zip(row, count)), 0)
+        self.assertEqual(places, sorted(places))
 
     def all_tuples(self, value):
         """That what is told is made of tuples throughout."""
@@ -247,6 +274,22 @@ def uneven_elements(policy, a, b):
     return found
 
 
+def rank(rows):
+    """The number of independent rows."""
+    rows = [[Fraction(x) for x in row] for row in rows]
+    found = 0
+    for col in range(len(rows[0]) if rows else 0):
+        at = next((k for k in range(found, len(rows)) if rows[k][col]), None)
+        if at is None:
+            continue
+        rows[found], rows[at] = rows[at], rows[found]
+        for k in range(found + 1, len(rows)):
+            share = rows[k][col] / rows[found][col]
+            rows[k] = [x - share * y for x, y in zip(rows[k], rows[found])]
+        found += 1
+    return found
+
+
 def random_policy_views(rng, modes, many, most=4):
     """Some views, in any order."""
     found = set()
@@ -291,7 +334,7 @@ def all_policies(seed, many):
 # The words with which evidence of some kind begins.
 WORDS = ("mean", "none", "best", "better", "least", "lower", "toll", "dead", "most", "free", "collection", "less", "more",
          "never", "network", "forced", "one", "two", "nought", "weights", "clock", "transfer", "element", "every", "ratio",
-         "rate", "section", "")
+         "rate", "section", "moved", "shares", "exchange", "weighing", "round", "debts", "pump", "few", "")
 
 
 def variations(value):

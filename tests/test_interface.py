@@ -8,6 +8,7 @@ import unittest
 from plain import ODD, Agreeable
 
 from handalong.building import build, compact, seats
+from handalong.changes import ChangeBook
 from handalong.collected import collection_mean, is_collection, network_collection, sites, unbalanced
 from handalong.drafts import draft_views, untangled
 from handalong.means import least_mean, least_network
@@ -76,12 +77,27 @@ regions: regions(policy) spans(policy, scores) connected(network)
 cuts: link_kinds(policy) cut_evidence(policy, cut) is_cut_evidence(policy, cut, value) bridges(policy)
 rules: beat(rule, network) beats(rule, network, many)
 nexts: next_views(rule) escape(rule) chain(rule)
+moved: gains(rule, weights) moved_evidence(rule, weights) greatest_gain(rule, weights) fall(rule, weights)
+moved: rest_bound(rule, weights) gain_step(rule, weights) is_moved_evidence(rule, weights, value)
+moved: moves(rule, weights, transfer, network) kept_weights(rule) lasting_weights(rule) keeping_rules(policy, weights)
+linked: link_evidence(rule, link_weights) is_link_evidence(rule, link_weights, value)
+weighings: is_weighing(modes, value) weight(weighing, network) effect(weighing, change) room(weighing, network)
+settling: passing(book) balance(book) is_balance(book, value) always_ends(book) end_evidence(book)
+settling: is_end_evidence(book, value)
+gains: is_table(value) gain(table, view) rest_policy(table, sizes) better_book(table, sizes) exact_weights(table)
+gains: is_exact(table, value)
+rests: worst_rest(table, degree) joint_ratio(one, first, other, second)
+common: classes(network, *, modes=True) common_cover(one, other, *, modes=True) apart(one, other, *, modes=True)
+common: shows_apart(one, other, value, *, modes=True) standing_cover(network, policy, scores) joint(one, other)
+common: standings(network, many)
 """
 
 CLASSES = {
     "policies": {"Policy": {"__init__": "self, modes, views", "spot": "self, view", "__eq__": None}},
     "networks": {"Network": {"__init__": "self, modes, links", "neighbours": "self, at", "view": "self, at",
                              "site_views": "self", "__eq__": None}},
+    "changes": {"ChangeBook": {"__init__": "self, modes, changes", "possible": "self, network",
+                               "played": "self, network, steps", "__eq__": None}},
     "rules": {"Rule": {"__init__": "self, policy, told", "new_mode": "self, view", "__eq__": None}},
 }
 
@@ -103,7 +119,7 @@ class Interface(unittest.TestCase):
             for each in inspect.signature(work).parameters.values():
                 if each.default is not each.empty:
                     self.assertIs(each.kind, each.KEYWORD_ONLY)
-                    self.assertIs(type(each.default), tuple)
+                    self.assertIn(type(each.default), (tuple, bool))
 
     def test_all_are_told_here(self):
         self.assertEqual(len(list(told_functions())), len(set(told_functions())))
@@ -124,7 +140,7 @@ class Interface(unittest.TestCase):
 class NothingElseIsEqual(unittest.TestCase):
     def test_objects(self):
         objects = [Policy(1, []), Policy(2, [(0, (0,))]), Network([0], []), Network([0, 1], [(0, 1)]),
-                   Rule(Policy(1, []), []), Rule(Policy(2, [(0, (0,))]), [1])]
+                   ChangeBook(1, []), ChangeBook(2, [(0, (), 1)]), Rule(Policy(1, []), []), Rule(Policy(2, [(0, (0,))]), [1])]
         for at, one in enumerate(objects):
             for place, other in enumerate(objects):
                 self.assertIs(one == other, at == place)

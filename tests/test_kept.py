@@ -5,7 +5,7 @@ from fractions import Fraction
 
 from judges import in_modes, judge_nought, judge_one, judge_weights, plain_live
 from plain import (ODD, Agreeable, Case, all_policies, dice, fraction, pair, plain_crossings, plain_elements, plain_mean,
-                   plain_sends, plain_total, variations)
+                   plain_sends, plain_total, rank, variations)
 
 from handalong.collected import copies, joined
 from handalong.kept import (is_mean_evidence, is_nought_evidence, is_weights_evidence, leading_views, mean_evidence,
@@ -28,22 +28,6 @@ def kept_scores(rng, policy, scores, live):
     told = [scores, sent, [c + x for x in sent], [modes[view[0]] + x for view, x in zip(policy.views, sent)],
             [0] * len(scores)]
     return [tuple(x if view in live else y for view, x, y in zip(policy.views, row, scores)) for row in told]
-
-
-def rank(rows):
-    """The number of independent rows."""
-    rows = [[Fraction(x) for x in row] for row in rows]
-    found = 0
-    for col in range(len(rows[0]) if rows else 0):
-        at = next((k for k in range(found, len(rows)) if rows[k][col]), None)
-        if at is None:
-            continue
-        rows[found], rows[at] = rows[at], rows[found]
-        for k in range(found + 1, len(rows)):
-            share = rows[k][col] / rows[found][col]
-            rows[k] = [x - share * y for x, y in zip(rows[k], rows[found])]
-        found += 1
-    return found
 
 
 class Means(Case):
@@ -201,20 +185,7 @@ class Plain(Case):
 class Laws(Case):
     def check_laws(self, policy, lots):
         rows = mode_laws(policy)
-        self.all_tuples(rows)
-        counts = [in_modes(policy.modes, lot) for lot in lots]
-        self.assertEqual(len(rows), policy.modes - rank(counts))
-        places = []
-        for row in rows:
-            self.assertEqual(len(row), policy.modes)
-            self.assertTrue(all(pair(fraction(x)) == x for x in row))
-            place = next(at for at, x in enumerate(row) if x != (0, 1))
-            self.assertEqual(row[place], (1, 1))
-            self.assertTrue(all(other is row or other[place] == (0, 1) for other in rows))
-            places.append(place)
-            for count in counts:
-                self.assertEqual(sum(fraction(x) * k for x, k in zip(row, count)), 0)
-        self.assertEqual(places, sorted(places))
+        self.checks_basis(rows, policy.modes, [in_modes(policy.modes, lot) for lot in lots])
         return rows
 
     def test_mode_laws(self):

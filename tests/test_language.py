@@ -172,7 +172,7 @@ class Language(unittest.TestCase):
                 if isinstance(node, ast.FunctionDef):
                     self.assertEqual((node.args.defaults, node.args.vararg, node.args.kwarg), ([], None, None), place)
                     for default in node.args.kw_defaults:
-                        self.assertIsInstance(ast.literal_eval(default), tuple, place)
+                        self.assertIsInstance(ast.literal_eval(default), (tuple, bool), place)
                     self.assertIsNotNone(ast.get_docstring(node) if not isinstance(node.above, ast.ClassDef) else "", place)
                 if isinstance(node, ast.Constant):
                     self.assertNotIsInstance(node.value, (float, complex), place)
@@ -181,7 +181,7 @@ class Language(unittest.TestCase):
                 if isinstance(node, ast.Raise) and node.exc is not None:
                     self.assertIsInstance(node.exc, ast.Call, place)
                 if isinstance(node, ast.ExceptHandler):
-                    self.assertTrue(isinstance(node.type, ast.Name) and node.type.id.startswith(("Invalid", "No", "Refused")))
+                    self.assertTrue(isinstance(node.type, ast.Name) and node.type.id.startswith(("Invalid", "No", "Refused", "NetError")))
 
     def test_strings(self):
         for name, text, tree in parsed():
