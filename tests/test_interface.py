@@ -10,7 +10,10 @@ from plain import ODD, Agreeable
 from handalong.building import build, compact, seats
 from handalong.changes import ChangeBook
 from handalong.collected import collection_mean, is_collection, network_collection, sites, unbalanced
+from handalong.desk import Desk
 from handalong.drafts import draft_views, untangled
+from handalong.living import Living
+from handalong.marks import Marked, MarkPolicy
 from handalong.means import least_mean, least_network
 from handalong.networks import Network, breaches, mean, pieces, side_by_side
 from handalong.policies import Policy
@@ -90,6 +93,18 @@ rests: worst_rest(table, degree) joint_ratio(one, first, other, second)
 common: classes(network, *, modes=True) common_cover(one, other, *, modes=True) apart(one, other, *, modes=True)
 common: shows_apart(one, other, value, *, modes=True) standing_cover(network, policy, scores) joint(one, other)
 common: standings(network, many)
+covers: cover(network, copies, turns) shifted(network, copies, shifts) is_over(network, base, sites, *, modes=True)
+rings: girth(network) shortest_ring(network) doubled(network) back_times(network, walk) reduced(network, walk)
+exchanges: exchanged(network, one, other) exchanges(network) seen_alike(one, other) exchange_row(one, other)
+sheets: sheet_holds(policy, value) sheet(policy, kind, question) wrong_sheets(policy, values)
+trees: is_tree(network) tree_views(policy) tree_links(policy) is_choices(policy, value) grown(policy, choices, view)
+trees: pumped(policy, choices, road, times)
+debts: branch_debts(policy, scores, limit, choices) least_debts(policy, scores, limit)
+debts: is_debt_evidence(policy, scores, limit, value) least_choices(policy, scores, limit)
+debts: least_tree(policy, scores, limit) view_floors(policy, scores, limit) link_floors(policy, scores, limit)
+debts: fewest_sites(policy) most_sites(policy) tree_mean(policy, scores) is_tree_mean(policy, scores, value)
+marks: unmarked(marked) breaks(policy, marked) split(marked, modes) translated(policy) unsplit(network, policy)
+marks: least_marked(policy, scores) is_marked_evidence(policy, scores, value) marked_cover(network)
 """
 
 CLASSES = {
@@ -98,6 +113,13 @@ CLASSES = {
                              "site_views": "self", "__eq__": None}},
     "changes": {"ChangeBook": {"__init__": "self, modes, changes", "possible": "self, network",
                                "played": "self, network, steps", "__eq__": None}},
+    "living": {"Living": {"__init__": "self, policy", "__len__": "self", "add": "self, mode", "turn": "self, site, mode",
+                          "link": "self, one, other", "cut": "self, one, other", "network": "self", "undo": "self",
+                          "within": "self, work", "wrong_sites": "self", "obeys": "self", "total": "self, scores",
+                          "left_at": "self, scores, transfer", "waiting": "self, site", "open_ends": "self"}},
+    "desk": {"Desk": {"__init__": "self", "say": "self, command"}},
+    "marks": {"Marked": {"__init__": "self, modes, links", "row": "self, at", "__eq__": None},
+              "MarkPolicy": {"__init__": "self, modes, marks, rows, ties", "__eq__": None}},
     "rules": {"Rule": {"__init__": "self, policy, told", "new_mode": "self, view", "__eq__": None}},
 }
 
@@ -140,7 +162,8 @@ class Interface(unittest.TestCase):
 class NothingElseIsEqual(unittest.TestCase):
     def test_objects(self):
         objects = [Policy(1, []), Policy(2, [(0, (0,))]), Network([0], []), Network([0, 1], [(0, 1)]),
-                   ChangeBook(1, []), ChangeBook(2, [(0, (), 1)]), Rule(Policy(1, []), []), Rule(Policy(2, [(0, (0,))]), [1])]
+                   ChangeBook(1, []), ChangeBook(2, [(0, (), 1)]), Living(Policy(1, [])), Desk(), Marked([0], []),
+                   Marked([0, 1], [(0, 1, 0)]), MarkPolicy(1, 1, [], []), MarkPolicy(2, 1, [], [(0, 0, 0)]), Rule(Policy(1, []), []), Rule(Policy(2, [(0, (0,))]), [1])]
         for at, one in enumerate(objects):
             for place, other in enumerate(objects):
                 self.assertIs(one == other, at == place)
@@ -149,6 +172,15 @@ class NothingElseIsEqual(unittest.TestCase):
                 self.assertIs(one == value, False)
                 if not isinstance(value, Agreeable):
                     self.assertIs(value == one, False)
+
+
+    def test_attributes(self):
+        """Those that the interface lists are there when an object is made."""
+        for thing, names in ((Policy(1, []), "modes views"), (Network([0], []), "modes links"), (ChangeBook(1, []), "modes changes"),
+                             (Rule(Policy(1, []), []), "policy told"), (Living(Policy(1, [])), "policy modes links"),
+                             (Desk(), "policy living"), (Marked([0], []), "modes links"),
+                             (MarkPolicy(1, 1, [], []), "modes marks rows ties")):
+            self.assertLessEqual(set(names.split()), set(vars(thing)))
 
 
 class WhatIsToldMayBePassed(unittest.TestCase):

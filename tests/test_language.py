@@ -177,7 +177,8 @@ class Language(unittest.TestCase):
                 if isinstance(node, ast.Constant):
                     self.assertNotIsInstance(node.value, (float, complex), place)
                 if isinstance(node, ast.Compare) and any(isinstance(op, (ast.Is, ast.IsNot)) for op in node.ops):
-                    self.assertTrue(all(isinstance(each, ast.Constant) for each in node.comparators), place)
+                    own = isinstance(node.left, ast.Name) and node.left.id == "self"
+                    self.assertTrue(own or all(isinstance(each, ast.Constant) for each in node.comparators), place)
                 if isinstance(node, ast.Raise) and node.exc is not None:
                     self.assertIsInstance(node.exc, ast.Call, place)
                 if isinstance(node, ast.ExceptHandler):
