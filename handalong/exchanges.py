@@ -74,7 +74,7 @@ def plain_circuit(one, other):
 
 def some_circuit(one, other):
     """A circuit by turns of links that only one of two networks has, of one kind, cut off at the first site again."""
-    first, second = [link for link in one.links if link not in other.links][0]
+    first, second = [(a, b) for a, b in one.links if b not in other.neighbours(a)][0]
     mode = one.modes[first]
     path = [first, second]
     used = {(first, second): True, (second, first): True}

@@ -227,4 +227,5 @@ def swap_along(near, site, one, other):
         mark, behind = behind, mark
     swap = {one: other, other: one}
     for place in path:
-        near[place] = {swap.get(known, known): to for known, to in near[place].items()}
+        row = near[place]
+        near[place] = {swap.get(known, known): to for known, to in row.items()}

@@ -68,12 +68,13 @@ def rest_bound(rule, weights):
     answer = fall(rule, weights)
     if escape(rule) is not None:
         return None
+    # What does not change gains nothing, so some c serves.
     if answer[0] == "every":
         return (0, 1)
-    if answer[0] == "none" or answer[1][0] <= 0:
+    top, bottom = answer[1]
+    if top <= 0:
         return None
     told = [weights[mode] for mode in modes_of(live_views(rule.policy))]
-    top, bottom = answer[1]
     return made((max(told) - min(told)) * bottom, top)
 
 

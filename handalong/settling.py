@@ -92,7 +92,7 @@ def checked_moves(book):
 def always_ends(book):
     """Whether all plays on all networks end."""
     leads = [rise - drop for _, rise, drop in checked_moves(book)]
-    return 0 not in leads and (min(leads, default=1) > 0 or max(leads, default=-1) < 0)
+    return min(leads, default=1) > 0 or max(leads) < 0
 
 
 def end_evidence(book):

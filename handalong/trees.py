@@ -31,7 +31,8 @@ def branch_views(policy):
                     ready.setdefault(link, view)
         if not ready:
             return found
-        found.update(ready)
+        for link, view in ready.items():
+            found[link] = view
 
 
 def tree_views(policy):

@@ -7,8 +7,9 @@ from itertools import combinations, product
 from plain import (ODD, Agreeable, Case, dice, plain_elements, plain_mean, random_network_parts, random_policy_views,
                    variations, walked_views)
 
-from handalong.common import apart, classes, common_cover, joint, shows_apart, standing_cover, standings
+from handalong.common import apart, classes, common_cover, joint, shares_of, shows_apart, standing_cover, standings
 from handalong.errors import InvalidQuestion, InvalidScore
+from handalong.laid import ends_of
 from handalong.means import least_mean
 from handalong.networks import Network, mean, pieces, side_by_side
 from handalong.policies import Policy
@@ -193,6 +194,27 @@ class Common(Case):
                 self.assertIs(shows_apart(one, other, value, modes=asked), judge_apart(one, other, value, asked), value)
         self.assertGreater(done, 2)
 
+    def test_neighbours_in_any_order(self):
+        """Sites with the same integers around them, told in another order, are not shown apart by these."""
+        one = Network([1, 2, 0], [(0, 2), (1, 2)])
+        other = Network([2, 1, 0], [(0, 2), (1, 2)])
+        rows = ((1, 2, 0, 2, 1, 0), (1, 2, 7, 2, 1, 8), (10, 11, 7, 12, 13, 8))
+        self.assertFalse(judge_apart(one, other, rows, True))
+        self.assertIs(shows_apart(one, other, rows), False)
+
+    def test_shares(self):
+        """The numbers over all sites of a class are as many for each class, and are parted evenly among the links."""
+        rng = dice(745)
+        for sizes, counts in (((4, 3), ((0, 3), (4, 0))), ((2, 6), ((0, 3), (1, 2))), ((8,), ((3,),)), ((1, 4), ((0, 4), (1, 2)))):
+            network = classed_network(rng, sizes, counts)
+            kinds = classes(network, modes=False)
+            ends = ends_of(network, kinds)
+            shares = shares_of(kinds, ends)
+            self.assertEqual(len({share * kinds.count(kind) for share, kind in zip(shares, kinds)}), 1)
+            for share, near in zip(shares, ends):
+                self.assertTrue(all(share % len(row) == 0 for row in near.values() if row))
+            self.assertLessEqual(max(shares), 12)
+
     def test_pieces_are_refused(self):
         fallen, whole = Network([0, 0], []), Network([0], [])
         for work in (common_cover, apart, lambda one, other, modes=True: shows_apart(one, other, None, modes=modes)):
@@ -309,6 +331,7 @@ class Standings(Case):
         self.assertEqual((sorted(cover.modes), mean(policy, [2, -50, 3], cover)), ([0, 1], (5, 2)))
         lone = standing_cover(Network([0, 3], []), policy, [2, -50, 3])
         self.assertEqual(set(lone[0].modes), {1})
+        self.assertEqual(standing_cover(Network([0], []), policy, [2, -50, 3]), (Network([1], []), (0,)))
 
     def test_joint(self):
         rng = dice(764)

@@ -7,7 +7,7 @@ from plain import ODD, Agreeable, Case, dice, random_network_parts, simple_graph
 from test_common import near_sites
 
 from handalong.errors import Refused
-from handalong.exchanges import exchanged, exchanges, exchange_row, seen_alike
+from handalong.exchanges import exchange_row, exchanged, exchanges, plain_circuit, seen_alike, shortened
 from handalong.networks import Network
 
 
@@ -43,6 +43,23 @@ def mixed_up(rng, network, many):
         if choices:
             network = exchanged(network, *rng.choice(choices))
     return network
+
+
+def long_circuit(rng, one, other):
+    """A circuit that goes on, wherever it comes by, until no link is left at its end; None if both are equal."""
+    mine, theirs = [set(x.links) - set(y.links) for x, y in ((one, other), (other, one))]
+    if not mine:
+        return None
+    start = rng.choice(sorted(mine))[0]
+    path = [start]
+    while True:
+        left = theirs if len(path) % 2 == 0 else mine
+        choices = [link for link in sorted(left) if path[-1] in link]
+        if not choices:
+            return path[:-1]
+        link = rng.choice(choices)
+        left.remove(link)
+        path.append(link[0] if link[1] == path[-1] else link[1])
 
 
 class Exchanges(Case):
@@ -146,6 +163,39 @@ class Exchanges(Case):
         five = Network([0] * 5, [(i, (i + 1) % 5) for i in range(5)])
         star = Network([0] * 5, [(i, (i + 2) % 5) for i in range(5)])
         check_row(self, five, star, exchange_row(five, star))
+
+    def test_shortened_circuits(self):
+        """Long circuits that pass sites several times fall into shorter ones, at last one that passes a site once."""
+        rng = dice(784)
+        crosswise = 0
+        for at in range(1500):
+            many = rng.randint(5, 8)
+            one = Network([0] * many, random_network_parts(rng, 1, many, tries=40)[1])
+            other = mixed_up(rng, one, 12)
+            circuit = long_circuit(rng, one, other)
+            if circuit is None:
+                continue
+            plain = plain_circuit(one, other)
+            self.check_circuit(one, other, plain)
+            self.assertEqual(plain.count(plain[0]), 1)
+            crosswise += all(circuit.count(site) == 2 for site in circuit)
+            length = len(circuit) + 1
+            while circuit is not None:
+                self.check_circuit(one, other, circuit)
+                self.assertLess(len(circuit), length)
+                length, last, circuit = len(circuit), circuit, shortened(circuit)
+            for half in (last[::2], last[1::2]):
+                self.assertEqual(len(set(half)), len(half))
+            self.assertIn(1, [last.count(site) for site in last])
+        self.assertGreater(crosswise, 3)
+
+    def check_circuit(self, one, other, circuit):
+        """That a circuit leads along unlike links, by turns of the first network alone and of the other one alone."""
+        links = [tuple(sorted((site, circuit[(at + 1) % len(circuit)]))) for at, site in enumerate(circuit)]
+        self.assertEqual(len(set(links)), len(links))
+        self.assertEqual(len(links) % 2, 0)
+        self.assertLessEqual(set(links[::2]), set(one.links) - set(other.links))
+        self.assertLessEqual(set(links[1::2]), set(other.links) - set(one.links))
 
     def test_large(self):
         rng = dice(783)

@@ -2,10 +2,11 @@
 
 import unittest
 from fractions import Fraction
+from itertools import product
 
 from judges import balanced_within, plain_live
-from plain import (ODD, Agreeable, Case, dice, fraction, plain_elements, random_network_parts, strict_fraction, told,
-                   variations, walked_views)
+from plain import (ODD, Agreeable, Case, dice, fraction, plain_elements, random_network_parts, random_policy_views,
+                   strict_fraction, told, variations, walked_views)
 from test_rules import degree_policy, random_rules
 
 from handalong.building import compact
@@ -16,6 +17,7 @@ from handalong.moved import keeping_rules
 from handalong.networks import Network
 from handalong.policies import Policy
 from handalong.rules import Rule, beat
+from handalong.views import all_views
 
 
 def weight_table(modes, weights):
@@ -101,7 +103,102 @@ def weighed_links(seed, many):
         yield rule, [ends[a] + ends[b] for a in range(len(ends)) for b in range(a, len(ends))]
 
 
+def turned_rules(seed, many):
+    """Rules that exchange modes, or that keep some weight, in small policies; many keep link sums in other ways than by gains of 0."""
+    rng = dice(seed)
+    hand = [[(0, (0, 1)), (1, (0, 1))], [(0, (0, 1, 1)), (1, (0, 0, 1))], [(0, (0, 1)), (1, (0, 2)), (2, (1, 2))],
+            [(0, (0, 1, 1)), (1, (0, 0, 2)), (2, (1, 2, 2))], [(0, (1, 1)), (1, (0, 2)), (2, (1, 1))],
+            [(0, (0, 0, 1)), (1, (0, 1, 1)), (1, (1, 1, 1))]]
+    for at in range(many):
+        modes = at % 2 + 2
+        if at % 3 == 0:
+            views = hand[rng.randrange(len(hand))]
+            modes = 1 + max(mode for mode, _ in views)
+        else:
+            views = random_policy_views(rng, modes, rng.randint(2, 5), most=3)
+        policy = Policy(modes, views)
+        turn = rng.sample(range(modes), modes)
+        told_modes = [turn[view[0]] for view in policy.views]
+        if at % 4 == 3:
+            told_modes = rng.choice(keeping_rules(policy, [rng.randint(0, 1) for _ in range(modes)]))
+        yield rng, Rule(policy, told_modes), [rng.randint(-3, 3) for _ in range(modes * (modes + 1) // 2)]
+
+
 class Links(Case):
+    def test_turned_modes(self):
+        rich = set()
+        many = 0
+        for at, (rng, rule, weights) in enumerate(turned_rules(634, 450)):
+            live = plain_live(rule.policy)
+            table = weight_table(rule.policy.modes, weights)
+            answer = link_evidence(rule, weights)
+            self.assertTrue(judge_link(rule, table, live, answer), (rule.policy.views, rule.told, weights, answer))
+            self.assertIs(is_link_evidence(rule, weights, answer), True)
+            if answer[0] == "shares" and any(share != (0, 1) for row in answer[1] for share in row):
+                many += 1
+                rich.add(rule.policy.views)
+                if many % 8 == 0:
+                    for value in variations(answer):
+                        self.assertIs(is_link_evidence(rule, weights, value), judge_link(rule, table, live, value), value)
+        self.assertGreater(many, 25)
+        self.assertGreater(len(rich), 3)
+
+    def test_weights_of_ends(self):
+        """If a rule keeps a weight and all sites have d links, it keeps what the ends of links weigh, d times the weight."""
+        rng = dice(635)
+        unlike = 0
+        for at in range(500):
+            degree = at % 2 + 2
+            pool = all_views(3, degree)
+            policy = Policy(3, rng.sample(pool, rng.randint(3, 6)))
+            ends = [rng.randint(-2, 2) for _ in range(3)]
+            rule = Rule(policy, rng.choice(keeping_rules(policy, ends)))
+            weights = [ends[a] + ends[b] for a in range(3) for b in range(a, 3)]
+            answer = link_evidence(rule, weights)
+            self.assertEqual(answer[0], "shares")
+            live = plain_live(policy)
+            self.assertTrue(judge_link(rule, weight_table(3, weights), live, answer), (policy.views, rule.told, weights, answer))
+            told_apart = {(view[0], ends[rule.new_mode(view)]) for view in live}
+            unlike += len(told_apart) > len({view[0] for view in live})
+        self.assertGreater(unlike, 10)
+
+    def test_other_shares(self):
+        """Shares that add up but do not cancel at a view, or are unlike for one mode, are no evidence."""
+        policy = Policy(2, [(0, (1, 1)), (1, (0, 0))])
+        still = Rule(policy, [0, 1])
+        zero, one, less_one = (0, 1), (1, 1), (-1, 1)
+        self.assertIs(is_link_evidence(still, [1, 2, 3], ("shares", ((zero, zero), (zero, zero)))), True)
+        self.assertIs(is_link_evidence(still, [1, 2, 3], ("shares", ((one, one), (less_one, less_one)))), False)
+        self.assertIs(is_link_evidence(still, [1, 2, 3], ("shares", ((one, less_one), (less_one, one)))), False)
+        twist = Rule(Policy(2, [(0, (0, 1)), (1, (0, 1))]), [1, 0])
+        half, less_half = (3, 2), (-3, 2)
+        answer = ("shares", ((half, less_half), (half, less_half)))
+        self.assertEqual(link_evidence(twist, [0, 5, 3]), answer)
+        self.assertIs(is_link_evidence(twist, [0, 5, 3], answer), True)
+        self.assertIs(is_link_evidence(twist, [0, 5, 4], answer), False)
+
+    def test_other_exchanges(self):
+        """Dead views, and values that are no views, are no evidence, whatever they would gain."""
+        views = [(0, (0, 0)), (0, (0, 1)), (1, (0, 1)), (1, (1, 1)), (0, (0, 0, 2)), (1, (0, 2)), (2, (2,))]
+        policy = Policy(3, views[:6])
+        live = plain_live(policy)
+        self.assertEqual(len(live), 4)
+        rule = Rule(policy, [1 if len(view[1]) == 3 else 0 if view == (0, (0, 0)) else 1 for view in policy.views])
+        table = weight_table(3, [0, 2, 5, 1, 1, 1])
+        answer = link_evidence(rule, [0, 2, 5, 1, 1, 1])
+        self.assertEqual(answer, ("exchange",) + plain_exchange(rule, table, live))
+        kinds = set()
+        for four in product(policy.views, repeat=4):
+            value = ("exchange",) + four
+            right = judge_link(rule, table, live, value)
+            kinds.add((right, fits_exchange(rule, table, *four)))
+            self.assertIs(is_link_evidence(rule, [0, 2, 5, 1, 1, 1], value), right)
+        self.assertEqual(kinds, {(True, True), (False, True), (False, False)})
+        for odd in ODD + [5, (), (0,), [0, (0, 0)], (0, [0, 0]), (False, (0, 0)), (9, (9,))]:
+            for at in range(1, 5):
+                value = answer[:at] + (odd,) + answer[at + 1:]
+                self.assertIs(is_link_evidence(rule, [0, 2, 5, 1, 1, 1], value), False)
+
     def test_random_rules(self):
         words = set()
         rng = dice(632)

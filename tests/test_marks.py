@@ -185,6 +185,8 @@ class Policies(Case):
         self.assertEqual(split(marked=marked, modes=2), Network([0, 1, 3], [(0, 2), (1, 2)]))
         self.assertEqual(split(Marked([2], []), 3), Network([2], []))
         self.refused(InvalidQuestion, 1, lambda: split(Marked([3], []), 3))
+        self.refused(InvalidQuestion, 1, lambda: split(Marked([0, 0, 0], [(0, 1, 0), (1, 2, 3)]), 1))
+        self.assertEqual(split(Marked([0, 0, 0], [(0, 1, 0), (1, 2, 2)]), 1).modes, (0, 0, 0, 1, 3))
         self.refused(InvalidQuestion, 1, lambda: split(Marked([3], []), 4))
         self.assertEqual(split(Marked([0, 0], [(0, 1, 0)]), 3).modes, (0, 0, 3))
 

@@ -228,6 +228,43 @@ class Walks(Case):
         self.assertEqual(back_times(network, [0] + a + a + b + b + back_a + back_a + back_b + back_b), 3)
         self.assertIsNone(back_times(network, [0] + a + b + back_b + back_a))
 
+    def test_parities(self):
+        """A place in the next network is one in this network and the links passed an odd number of times on the way."""
+        rng = dice(732)
+        seen = set()
+        for at in range(600):
+            modes, links = random_network_parts(rng, 1, rng.randint(3, 6), tries=14)
+            network = Network(modes, links)
+            first = self.random_walk(rng, network, 9)
+            walk = first + self.random_walk_from(rng, network, first[-1], 5)
+            if rng.random() < 0.3:
+                more = self.random_walk_from(rng, network, walk[-1], 4)
+                walk = walk + more + (more[-2::-1] + [walk[-1]] if more else [])
+            if walk[0] == walk[-1] and len(walk) > 1:
+                walk = walk + walk[1:] * rng.randint(0, 3)
+            places, count = list(walk), 0
+            while places[0] == places[-1] and count < 12:
+                odd, found = frozenset(), [(places[0], frozenset())]
+                for one, other in zip(places, places[1:]):
+                    odd = odd ^ {frozenset((one, other))}
+                    found.append((other, odd))
+                known = {}
+                places = [known.setdefault(place, len(known)) for place in found]
+                count += 1
+            told = back_times(network, walk)
+            self.assertEqual(told, None if count == 12 else count)
+            seen.add(told)
+        self.assertLessEqual({None, 0, 1, 2, 3}, seen)
+
+    def random_walk_from(self, rng, network, site, most):
+        """The further sites of a walk."""
+        walk = [site]
+        for _ in range(rng.randint(0, most)):
+            near = network.neighbours(walk[-1])
+            if near:
+                walk.append(rng.choice(near))
+        return walk[1:]
+
     def test_errors(self):
         network = Network([0] * 4, [(0, 1), (1, 2)])
         for work in (back_times, reduced):
