@@ -46,7 +46,7 @@ def shifted(network, copies, shifts):
     for at, shift in enumerate(shifts):
         if not is_integer(shift):
             raise Refused(at)
-    return turned_over(network, copies, [[(at + shift) % copies for at in range(copies)] for shift in shifts])
+    return turned_over(network, copies, [[(own + shift) % copies for own in range(copies)] for shift in shifts])
 
 
 def is_over(network, base, sites, *, modes=True):

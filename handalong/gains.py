@@ -68,7 +68,7 @@ def exact_weights(table):
         if round_sum(table, a, c, b, e) != 0:
             return ("round", (a, c, b, e))
     extra = [table[mode][0] - table[0][mode] for mode in many]
-    return ("weights", tuple([tuple([number + extra[b] for b, number in enumerate(row)]) for row in table]))
+    return ("weights", tuple([tuple([number + more for number, more in zip(row, extra)]) for row in table]))
 
 
 def is_exact(table, value):

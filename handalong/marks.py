@@ -20,6 +20,7 @@ class Marked:
     def __init__(self, modes, links):
         self.modes = checked_modes(modes)
         self.links = checked_links(len(self.modes), links)
+        self._rows = rows_of(self.modes, self.links)
 
     def __eq__(self, other):
         return isinstance(other, Marked) and self.modes == other.modes and self.links == other.links
@@ -28,7 +29,7 @@ class Marked:
         """The mode of a site, and the marks of its links in order."""
         if not is_below(at, len(self.modes)):
             raise InvalidQuestion(0)
-        return (self.modes[at], tuple(sorted([mark for one, other, mark in self.links if at in (one, other)])))
+        return self._rows[at]
 
 
 class MarkPolicy:
@@ -62,6 +63,15 @@ def checked_links(many, links):
         near[other].append(one)
         found.append((min(one, other), max(one, other), mark))
     return tuple(sorted(found))
+
+
+def rows_of(modes, links):
+    """The rows of all sites with these modes and marked links."""
+    marks = [[] for _ in modes]
+    for one, other, mark in links:
+        marks[one].append(mark)
+        marks[other].append(mark)
+    return tuple([(mode, tuple(sorted(row))) for mode, row in zip(modes, marks)])
 
 
 def is_mark_row(value, modes, marks):

@@ -164,6 +164,21 @@ class Exchanges(Case):
         star = Network([0] * 5, [(i, (i + 2) % 5) for i in range(5)])
         check_row(self, five, star, exchange_row(five, star))
 
+    def test_nested_rounds(self):
+        """Circuits whose first two or three sites are passed twice, each within the round of the one before."""
+        rng = dice(785)
+        for circuit in ([0, 1, 2, 3, 1, 4, 5, 0, 6, 7], [0, 1, 2, 3, 4, 2, 5, 6, 1, 7, 8, 0, 9, 10]):
+            names = list(range(max(circuit) + 1))
+            for _ in range(60):
+                links = [(names[i], names[j]) for i, j in zip(circuit, circuit[1:] + circuit[:1])]
+                one, other = [Network([0] * len(names), links[first::2]) for first in (0, 1)]
+                for before, behind in ((one, other), (other, one)):
+                    plain = plain_circuit(before, behind)
+                    self.check_circuit(before, behind, plain)
+                    self.assertEqual(plain.count(plain[0]), 1)
+                    check_row(self, before, behind, exchange_row(before, behind))
+                rng.shuffle(names)
+
     def test_shortened_circuits(self):
         """Long circuits that pass sites several times fall into shorter ones, at last one that passes a site once."""
         rng = dice(784)

@@ -89,7 +89,7 @@ class Refusals(Case):
                 value[at] = odd
                 self.refused(InvalidTransfer, at, lambda: moves(rule, [0, 0, 0], value, pair_of))
                 self.refused(InvalidTransfer, at, lambda: moves(rule, [0, 0, 0], value, Network([3], [])))
-        wrong = Network([0, 0, 1], [(0, 1)])
+        wrong = Network([0, 0, 1, 2], [(0, 1)])
         self.refused(NotObeyed, 2, lambda: moves(rule, [0, 0, 0], [(0, 1), (1, 1), (0, 1)], wrong))
         told = Network([0, 0, 1, 2, 0, 2], [(0, 1), (2, 3), (4, 5)])
         self.refused(Refused, 4, lambda: moves(rule, [0, 0, 0], [(0, 1), (1, 1), (0, 1)], told))
